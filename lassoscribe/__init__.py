@@ -1,0 +1,1 @@
+"""Lassoscribe: sentences about runs without end, and what watches them."""
