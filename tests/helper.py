@@ -2,6 +2,7 @@
 
 import copy
 import itertools
+import random
 import unittest
 
 ALL_LETTERS = "abcdefghijklmnopqrstuvwxyz"
@@ -38,6 +39,145 @@ def lists_of(moments, shortest, longest):
 def small_runs(moments, longest_stem, longest_ring):
     return [(list(stem), list(ring)) for stem in lists_of(moments, 0, longest_stem)
             for ring in lists_of(moments, 1, longest_ring)]
+
+
+# How many sentences stand behind each of the fourteen words (a lamp has its letter there).
+WORDS = {"yes": 0, "no": 0, "lamp": 0, "not": 1, "next": 1, "atlast": 1, "always": 1, "again": 1, "settles": 1,
+         "and": 2, "or": 2, "then": 2, "until": 2, "frees": 2}
+PLAIN_WORDS = ["yes", "lamp", "not", "and", "next", "until"]
+YES, NO = ("yes",), ("no",)
+A, B, C = ("lamp", "a"), ("lamp", "b"), ("lamp", "c")
+
+
+def parts(sentence):
+    """A sentence and all that stand in it, each as often as it stands there."""
+    inner = [] if sentence[0] == "lamp" else sentence[1:]
+    return [sentence] + [part for one in inner for part in parts(one)]
+
+
+def deep(sentence):
+    """How deep it is nested: one tuple alone is one deep."""
+    inner = [] if sentence[0] == "lamp" else sentence[1:]
+    return 1 + max([deep(part) for part in inner], default=0)
+
+
+def layers(word, many, inner):
+    for _ in range(many):
+        inner = (word, inner)
+    return inner
+
+
+def all_sentences(most_words, leaves, known=tuple(WORDS)):
+    """All sentences of the known words with these leaves, of at most so many words."""
+    by_size = {1: list(leaves)}
+    for size in range(2, most_words + 1):
+        by_size[size] = [(word, inner) for word in known if WORDS[word] == 1 for inner in by_size[size - 1]]
+        by_size[size] += [(word, left, right) for word in known if WORDS[word] == 2 for cut in range(1, size - 1)
+                          for left in by_size[cut] for right in by_size[size - 1 - cut]]
+    return [sentence for size in by_size for sentence in by_size[size]]
+
+
+def drawn_sentence(source, size, letters="abc", known=tuple(WORDS)):
+    """A sentence of just so many words, drawn from a source of chance that begins alike each time."""
+    fits = [word for word in known if (size == 1) == (WORDS[word] == 0) and WORDS[word] < size]
+    word = source.choice(fits)
+    if word == "lamp":
+        return (word, source.choice(letters))
+    if WORDS[word] < 2:
+        return (word,) + tuple(drawn_sentence(source, size - 1, letters, known) for _ in range(WORDS[word]))
+    left = source.randint(1, size - 2)
+    return (word, drawn_sentence(source, left, letters, known),
+            drawn_sentence(source, size - 1 - left, letters, known))
+
+
+def drawn_sentences(seed, many, sizes, letters="abc", known=tuple(WORDS)):
+    source = random.Random(seed)
+    return [drawn_sentence(source, source.choice(sizes), letters, known) for _ in range(many)]
+
+
+def drawn_run(source, moments, longest_stem, longest_ring):
+    return ([source.choice(moments) for _ in range(source.randint(0, longest_stem))],
+            [source.choice(moments) for _ in range(source.randint(1, longest_ring))])
+
+
+def truths(sentence, run):
+    """What a sentence says at each place of stem and ring, looked for step by step as point 9 tells it.
+    From a place on, as many places as stem and ring have are all that differ."""
+    stem, ring = run
+    count = len(stem) + len(ring)
+    around = list(range(count)) + [len(stem) + step % len(ring) for step in range(2 * count)]
+    word = sentence[0]
+    inner = [truths(part, run) for part in sentence[1:]] if word != "lamp" else []
+
+    def first(place):
+        return inner[0][around[place]]
+
+    def second(place):
+        return inner[1][around[place]]
+
+    def says(place):
+        onward = range(place, place + count)
+        if word == "yes":
+            return True
+        if word == "no":
+            return False
+        if word == "lamp":
+            return sentence[1] in (stem + ring)[place]
+        if word == "not":
+            return not first(place)
+        if word == "and":
+            return first(place) and second(place)
+        if word == "or":
+            return first(place) or second(place)
+        if word == "then":
+            return not first(place) or second(place)
+        if word == "next":
+            return first(place + 1)
+        if word == "atlast":
+            return any(first(later) for later in onward)
+        if word == "always":
+            return all(first(later) for later in onward)
+        if word == "again":
+            return any(inner[0][len(stem):])
+        if word == "settles":
+            return all(inner[0][len(stem):])
+        if word == "until":
+            return any(second(later) and all(first(step) for step in range(place, later)) for later in onward)
+        if word == "frees":
+            lets = [later for later in onward if first(later)]
+            upto = range(place, lets[0] + 1) if lets else onward
+            return all(second(step) for step in upto)
+        raise AssertionError("no such word: " + repr(word))
+
+    return [says(place) for place in range(count)]
+
+
+def sentence_of_row(rows, number):
+    row = rows[number]
+    if row[0] == "lamp":
+        return row
+    return (row[0],) + tuple(sentence_of_row(rows, inner) for inner in row[1:])
+
+
+def drawn_book(source, many, letters="abc", most_words=200):
+    """So many rows that no laid sentences need to have brought: in any order that has the parts ahead."""
+    rows, sizes, depths = [], [], []
+    while len(rows) < many:
+        word = source.choice(["yes", "lamp", "not", "and", "and", "next", "until", "until"])
+        if word == "lamp":
+            row, inner = (word, source.choice(letters)), []
+        elif WORDS[word] > 0 and not rows:
+            continue
+        else:
+            inner = [source.randrange(len(rows)) for _ in range(WORDS[word])]
+            row = (word,) + tuple(inner)
+        size = 1 + sum(sizes[number] for number in inner)
+        depth = 1 + max([depths[number] for number in inner], default=0)
+        if row not in rows and size <= most_words and depth <= 100:
+            rows.append(row)
+            sizes.append(size)
+            depths.append(depth)
+    return rows
 
 
 def spoil(thing):
