@@ -4,9 +4,9 @@ from lassoscribe.moments import is_moment
 
 MOST_WORDS = 24
 
-# How many sentences stand behind each word. A lamp's letter is no sentence.
+# How many sentences stand behind each word but lamp, behind which a letter stands.
 PARTS = {
-    "yes": 0, "no": 0, "lamp": 0,
+    "yes": 0, "no": 0,
     "not": 1, "next": 1, "atlast": 1, "always": 1, "again": 1, "settles": 1,
     "and": 2, "or": 2, "then": 2, "until": 2, "frees": 2,
 }

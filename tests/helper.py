@@ -180,6 +180,71 @@ def drawn_book(source, many, letters="abc", most_words=200):
     return rows
 
 
+def walks_fairly(net, node, stem, ring):
+    """Whether point 18 tells these ways as a fair ring from the node, gone step by step."""
+    count, ways, marks = net
+    numbers = stem + ring
+    if not ring or any(number not in range(len(ways)) for number in numbers):
+        return False
+    ended = [node] + [ways[number][1] for number in numbers]
+    begun = [ways[number][0] for number in numbers]
+    if begun != ended[:-1] or ended[-1] != begun[len(stem)]:
+        return False
+    return {mark for number in ring for mark in ways[number][2]} == set(range(marks))
+
+
+def is_kept_paper(net, starts, rows):
+    """Whether these are a paper for the starts, as point 19 tells it."""
+    count, ways, marks = net
+    if len(rows) != count or any(rows[start] is None for start in starts):
+        return False
+    for row in rows:
+        if row is not None and (row[0] < 0 or row[1] not in [None] + list(range(marks))):
+            return False
+    for begin, end, taken in ways:
+        if rows[begin] is not None:
+            if rows[end] is None or rows[end][0] > rows[begin][0]:
+                return False
+            if rows[end][0] == rows[begin][0]:
+                lack = rows[begin][1]
+                if rows[end][1] != lack or lack is None or lack in taken:
+                    return False
+    return True
+
+
+def nodes_with_fair_ring(net):
+    """Of each node whether a fair ring goes from it, by which nodes lead to which in any many steps."""
+    count, ways, marks = net
+    reach = [{node} for node in range(count)]
+    changed = True
+    while changed:
+        changed = False
+        for begin, end, taken in ways:
+            if not reach[end] <= reach[begin]:
+                reach[begin] |= reach[end]
+                changed = True
+
+    def has_ring_through(node):
+        around = [taken for begin, end, taken in ways if begin in reach[node] and node in reach[end]]
+        return bool(around) and {mark for taken in around for mark in taken} == set(range(marks))
+
+    through = [has_ring_through(node) for node in range(count)]
+    return [any(through[other] for other in reach[node]) for node in range(count)]
+
+
+def cut_marks(net, marks):
+    """The net with the first marks alone."""
+    return (net[0], [(begin, end, tuple(mark for mark in taken if mark < marks)) for begin, end, taken in net[1]], marks)
+
+
+def drawn_net(source, count, many_ways, marks, often):
+    """A net in which a way takes each mark that often (of a hundred)."""
+    def taken():
+        return tuple(mark for mark in range(marks) if source.randrange(100) < often)
+
+    return (count, [(source.randrange(count), source.randrange(count), taken()) for _ in range(many_ways)], marks)
+
+
 def spoil(thing):
     if isinstance(thing, (list, tuple)):
         for part in thing:

@@ -35,7 +35,23 @@ NOT_NAMES = """register mro elements open input version_info with_traceback add_
     methodcaller os quit setattr super type vars sys chr""".split()
 FILE_NAMES_OUT = "test tests testing site conftest sitecustomize usercustomize".split()
 WALKED_AT_ONCE = "zip enumerate reversed range".split()
+DICT_WALKS = "items keys values".split()
+CHANGERS = "append clear extend insert pop remove reverse setdefault update".split()
 WALKERS = "list tuple dict sorted sum any all enumerate zip min max".split()
+
+
+def changed_in(tree):
+    """The names whose lists or dicts are changed there: by a changing method, or at an index."""
+    names = []
+    for node in ast.walk(tree):
+        changed = None
+        if isinstance(node, ast.Call) and isinstance(node.func, ast.Attribute) and node.func.attr in CHANGERS:
+            changed = node.func.value
+        elif isinstance(node, ast.Subscript) and isinstance(node.ctx, ast.Store):
+            changed = node.value
+        if isinstance(changed, ast.Name):
+            names.append(changed.id)
+    return names
 
 
 class Checker:
@@ -50,6 +66,9 @@ class Checker:
         self.classes = [node.name for node in self.tree.body if isinstance(node, ast.ClassDef)]
         self.imports = [alias.name for node in self.tree.body if isinstance(node, ast.ImportFrom)
                         for alias in node.names]
+        self.top_stores = [target.id for node in self.tree.body if isinstance(node, ast.Assign)
+                           and isinstance(node.value, (ast.List, ast.Dict))
+                           for target in node.targets if isinstance(target, ast.Name)]
         self.own_methods = [node.name for node in ast.walk(self.tree) if isinstance(node, ast.FunctionDef)
                             and isinstance(self.above[node], ast.ClassDef)]
 
@@ -59,6 +78,8 @@ class Checker:
     def run(self):
         self.check_text()
         self.check_top()
+        if any(name in self.top_stores for name in changed_in(self.tree)):
+            self.fault("L15", 0)
         for node in ast.walk(self.tree):
             kind = node.__class__.__name__
             if kind not in NODES:
@@ -168,11 +189,18 @@ class Checker:
         if len(node.targets) > 1:
             self.fault("L6", node.lineno)
 
-    def see_For(self, node):
+    def see_While(self, node):
         if node.orelse:
             self.fault("L6", node.lineno)
 
-    see_While = see_For
+    def see_For(self, node):
+        self.see_While(node)
+        walked = [part.id for part in ast.walk(node.iter) if isinstance(part, ast.Name)]
+        for statement in node.body:
+            for name in changed_in(statement):
+                # A copy may be walked while the list itself is changed.
+                if name in walked and not self.is_call_of(node.iter, ["list", "tuple", "sorted", "range"]):
+                    self.fault("L23", node.lineno)
 
     def see_Try(self, node):
         if node.finalbody:
@@ -243,7 +271,8 @@ class Checker:
                 above = self.above[above]
             if not isinstance(above, ast.Compare) and not self.is_call_of(above, ["sorted", "len"]):
                 self.fault("L24", node.lineno)
-        if self.is_call_of(node, WALKED_AT_ONCE):
+        dict_walk = isinstance(node.func, ast.Attribute) and node.func.attr in DICT_WALKS
+        if self.is_call_of(node, WALKED_AT_ONCE) or dict_walk:
             walked = isinstance(above, (ast.For, ast.comprehension)) or self.is_call_of(above, WALKERS)
             if not walked and not self.is_call_of_join(above):
                 self.fault("L23", node.lineno)
@@ -337,6 +366,10 @@ class CheckerTest(unittest.TestCase):
             ("L19", "def f(x):\n    try:\n        pass\n    except Exception:\n        pass\n"),
             ("L20", "def f(x, y):\n    return x is y\n"), ("L21", "def f(x: int):\n    return x\n"),
             ("L22", "def f(x):\n    y = len\n    return y(x)\n"), ("L23", "def f(x):\n    y = range(x)\n    return y\n"),
+            ("L23", "def f(x):\n    y = x.items()\n    return y\n"), ("L15", "A = []\n\n\ndef f(x):\n    A.append(x)\n"),
+            ("L15", "A = {}\n\n\ndef f(x):\n    A[x] = x\n"),
+            ("L23", "def f(x):\n    for y in x:\n        x.append(y)\n"),
+            ("L23", "def f(x):\n    for y, z in enumerate(x):\n        x[y] = z\n"),
             ("L24", "def f(x):\n    y = set(x)\n    return y\n"), ("L25", "def f(x):\n    x.sort()\n"),
             ("L25", "def f(x):\n    return x.title()\n"), ("L27", "A = '%'\n"), ("L27", "def f(n):\n    return 2 ** n\n"),
         ]:
