@@ -95,13 +95,13 @@ def lack_of(taken, marks):
     return missing_marks(taken, marks)[0]
 
 
-def are_leading_to(net, wanted):
-    begins = begins_of(net)
+# The wanted nodes, and all that are come to from them by the leads, in whatever many steps.
+def spread(leads, wanted):
     found = list(wanted)
     line = [node for node, truth in enumerate(wanted) if truth]
     while len(line) > 0:
         node = line.pop()
-        for other in begins[node]:
+        for other in leads[node]:
             if not found[other]:
                 found[other] = True
                 line.append(other)
@@ -112,11 +112,25 @@ def shut(net):
     marks = net[2]
     knots = knots_of(net)
     within = marks_within(net, knots)
-    free = are_leading_to(net, [is_fair(within[knot], marks) for knot in knots])
+    free = spread(begins_of(net), [is_fair(within[knot], marks) for knot in knots])
     rows = []
     for node, knot in enumerate(knots):
         rows.append(None if free[node] else (knot, lack_of(within[knot], marks)))
     return rows
+
+
+# The paper's tuples of the nodes that are come to from the starts, as (node, rank, lack): no paper for
+# them does with fewer.
+def paper_from(net, starts):
+    wanted = [False for node in range(net[0])]
+    for start in starts:
+        wanted[start] = True
+    needed = spread(ends_of(net), wanted)
+    paper = []
+    for node, row in enumerate(shut(net)):
+        if needed[node]:
+            paper.append((node, row[0], row[1]))
+    return paper
 
 
 def traced(ways, came_by, last):
@@ -179,3 +193,12 @@ def ring_from(net, node):
     if stem is None:
         return None
     return (stem, ring_within(net, knots, ways[stem[-1]][1]))
+
+
+# A fair ring from the first of some nodes that has one; None where none of them has.
+def fair_ring(net, nodes):
+    rows = shut(net)
+    for node in nodes:
+        if rows[node] is None:
+            return ring_from(net, node)
+    return None

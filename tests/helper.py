@@ -5,6 +5,9 @@ import itertools
 import random
 import unittest
 
+from lassoscribe.books import book_of
+from lassoscribe.plains import plain
+
 ALL_LETTERS = "abcdefghijklmnopqrstuvwxyz"
 
 
@@ -47,6 +50,12 @@ WORDS = {"yes": 0, "no": 0, "lamp": 0, "not": 1, "next": 1, "atlast": 1, "always
 PLAIN_WORDS = ["yes", "lamp", "not", "and", "next", "until"]
 YES, NO = ("yes",), ("no",)
 A, B, C = ("lamp", "a"), ("lamp", "b"), ("lamp", "c")
+
+
+NO_SENTENCES = OTHER_KINDS + [
+    "", "yes", "always a", ("yes", YES), ("maybe",), ("lamp", "A"), ("lamp", "ab"), ("lamp", 0), ("not",), ["yes"],
+    ("not", A, B), ("and", A), ("until", A, B, C), ("not", ["lamp", "a"]), {"yes": YES}, (["yes"],), ("not", nested(98)),
+]
 
 
 def parts(sentence):
@@ -159,6 +168,83 @@ def sentence_of_row(rows, number):
     return (row[0],) + tuple(sentence_of_row(rows, inner) for inner in row[1:])
 
 
+def looked(rows, moment, claims):
+    """The view as point 13 tells it, each truth asked for by itself."""
+    waiting = [number for number, row in enumerate(rows) if row[0] == "until" or ("next", number) in rows]
+    claimed = dict(zip(waiting, claims, strict=True))
+    known = {}
+
+    def truth(number):
+        if number not in known:
+            word, inner = rows[number][0], rows[number][1:]
+            known[number] = {
+                "yes": lambda: True,
+                "lamp": lambda: inner[0] in list(moment),
+                "not": lambda: truth(inner[0]) is False,
+                "and": lambda: (truth(inner[0]), truth(inner[1])) == (True, True),
+                "next": lambda: claimed[inner[0]],
+                "until": lambda: truth(inner[1]) or (truth(inner[0]), claimed[number]) == (True, True),
+            }[word]()
+        return known[number]
+
+    return tuple(truth(number) for number in range(len(rows)))
+
+
+class Book:
+    """A book with its looks and steps, worked out by the tests themselves as points 12 to 14, 23 and 27 tell them."""
+
+    def __init__(self, rows, spots=()):
+        self.rows, self.spots = rows, list(spots)
+        self.waits = [number for number, row in enumerate(rows) if row[0] == "until" or ("next", number) in rows]
+        self.hopes = [number for number, row in enumerate(rows) if row[0] == "until"]
+        # Of many waits, claims would be very many, and nothing is asked of them.
+        self.claims = list(itertools.product([False, True], repeat=len(self.waits))) if len(self.waits) < 9 else None
+        self.lamps = "".join(sorted({row[1] for row in rows if row[0] == "lamp"}))
+        self.moments = sorted("".join(some) for size in range(len(self.lamps) + 1)
+                              for some in itertools.combinations(self.lamps, size))
+        self.known = {}
+
+    def look(self, moment, claims):
+        """The view, its claims, and the hopes eased in it."""
+        moment = "".join(lamp for lamp in moment if lamp in self.lamps)
+        if (moment, claims) not in self.known:
+            view = looked(self.rows, moment, claims)
+            eased = tuple(place for place, hope in enumerate(self.hopes)
+                          if view[hope] is False or view[self.rows[hope][2]] is True)
+            self.known[moment, claims] = (view, tuple(view[number] for number in self.waits), eased)
+        return self.known[moment, claims]
+
+    def says(self, moment, claims, which=0):
+        return self.look(moment, claims)[0][self.spots[which]]
+
+    def steps(self):
+        """All steps (from, to, taken) between claims, by each of all moments."""
+        return [(self.look(moment, claims)[1], claims, self.look(moment, claims)[2])
+                for moment in self.moments for claims in self.claims]
+
+
+def book_for(*sentences):
+    return Book(*book_of([plain(sentence) for sentence in sentences]))
+
+
+def is_paper_over(kept, starts, ways, marks):
+    """Whether the tuples (rank, lack) kept by nodes of whatever kind are a paper, as point 19 tells it."""
+    if any(start not in kept for start in starts):
+        return False
+    for rank, lack in kept.values():
+        if rank < 0 or not (lack is None or 0 <= lack < marks):
+            return False
+    for begin, end, taken in ways:
+        if begin in kept:
+            if end not in kept or kept[end][0] > kept[begin][0]:
+                return False
+            if kept[end][0] == kept[begin][0]:
+                lack = kept[begin][1]
+                if kept[end][1] != lack or lack is None or lack in taken:
+                    return False
+    return True
+
+
 def drawn_book(source, many, letters="abc", most_words=200):
     """So many rows that no laid sentences need to have brought: in any order that has the parts ahead."""
     rows, sizes, depths = [], [], []
@@ -194,22 +280,10 @@ def walks_fairly(net, node, stem, ring):
 
 
 def is_kept_paper(net, starts, rows):
-    """Whether these are a paper for the starts, as point 19 tells it."""
+    """Whether these are a paper for the starts of a net."""
     count, ways, marks = net
-    if len(rows) != count or any(rows[start] is None for start in starts):
-        return False
-    for row in rows:
-        if row is not None and (row[0] < 0 or row[1] not in [None] + list(range(marks))):
-            return False
-    for begin, end, taken in ways:
-        if rows[begin] is not None:
-            if rows[end] is None or rows[end][0] > rows[begin][0]:
-                return False
-            if rows[end][0] == rows[begin][0]:
-                lack = rows[begin][1]
-                if rows[end][1] != lack or lack is None or lack in taken:
-                    return False
-    return True
+    kept = {node: row for node, row in enumerate(rows) if row is not None}
+    return len(rows) == count and is_paper_over(kept, starts, ways, marks)
 
 
 def nodes_with_fair_ring(net):
@@ -243,6 +317,35 @@ def drawn_net(source, count, many_ways, marks, often):
         return tuple(mark for mark in range(marks) if source.randrange(100) < often)
 
     return (count, [(source.randrange(count), source.randrange(count), taken()) for _ in range(many_ways)], marks)
+
+
+def walks(machine, stem, ring):
+    """Whether point 24 tells these states as a walk of the machine, gone step by step."""
+    lit, ways, starts, marks = machine
+    states = stem + ring
+    if not ring or any(state not in range(len(lit)) for state in states) or states[0] not in starts:
+        return False
+    following = states[1:] + [ring[0]]
+    steps = [(here, there) for here, there in zip(states, following)]
+    if any(step not in ways for step in steps):
+        return False
+    gone = {ways.index(step) for step in steps[len(stem):]}
+    return all(gone & set(mark) for mark in marks)
+
+
+def drawn_machine(source, most_states, moments, most_marks=3):
+    count = source.randint(1, most_states)
+    every = [(begin, end) for begin in range(count) for end in range(count)]
+    ways = source.sample(every, source.randint(0, min(24, len(every), 3 * count)))
+    marks = [source.sample(range(len(ways)), source.randint(min(1, len(ways)), len(ways)))
+             for _ in range(source.randint(0, most_marks))]
+    starts = source.sample(range(count), source.randint(min(1, source.randint(0, 5)), count))
+    return ([source.choice(moments) for _ in range(count)], ways, starts, marks)
+
+
+def lists_in(thing):
+    inner = [found for part in thing for found in lists_in(part)] if isinstance(thing, (list, tuple)) else []
+    return inner + ([thing] if isinstance(thing, list) else [])
 
 
 def spoil(thing):
@@ -296,3 +399,22 @@ class Case(unittest.TestCase):
         self.assert_same(run[1], ring)
         spoil(run[1])
         self.assert_same(run[0][1:], (stem + ["spoilt"])[1:])
+
+    def assert_lists_apart(self, told):
+        """No list in what is told is another one there, too."""
+        found = lists_in(told)
+        self.assertEqual(len({id(some) for some in found}), len(found))
+
+    def assert_plain_run(self, run, lamps, longest_stem, longest_ring):
+        """A told run: of the right kinds, its moments of these lamps alone, and within these bounds."""
+        self.assertTrue(type(run) is tuple and [type(part) for part in run] == [list, list], run)
+        stem, ring = run
+        for moment in stem + ring:
+            self.assertTrue(type(moment) is str and moment == "".join(lamp for lamp in lamps if lamp in moment), run)
+        self.assertLessEqual(len(stem), longest_stem)
+        self.assertLessEqual(len(ring), longest_ring)
+        self.assertGreater(len(ring), 0)
+
+    def assert_rank_and_lack(self, rank, lack):
+        self.assertIs(type(rank), int)
+        self.assertTrue(lack is None or type(lack) is int, lack)

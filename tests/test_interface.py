@@ -15,6 +15,10 @@ INTERFACE = {
     "readings": "places_true(sentence, run) true_on(sentence, run) reading(rows, run) is_reading(rows, run, views)",
     "nets": "goes(net, node, stem, ring) is_paper(net, starts, rows)",
     "rings": "shut(net) ring_from(net, node)",
+    "watchers": "watcher(sentence) takes(watcher, run)",
+    "machines": "is_machine(thing) is_walk(machine, stem, ring) lit_along(machine, stem, ring) machine_of(run)",
+    "held": "held(machine, sentence) shuts_out(machine, sentence, rows)",
+    "frees": "claims_told(rows) possible(sentence) same(one, other) within(one, other)",
 }
 
 

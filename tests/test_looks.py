@@ -2,34 +2,12 @@ import itertools
 import random
 import unittest
 
-from helper import (A, ALL_LETTERS, B, C, YES, Case, drawn_book, drawn_run, layers, sentence_of_row, truths)
+from helper import (A, ALL_LETTERS, B, C, YES, Case, drawn_book, drawn_run, layers, looked, sentence_of_row, truths)
 
 from lassoscribe.books import book_of, hopes, waits
 from lassoscribe.looks import all_claims, claims_of, eased, look
 
 T, F = True, False
-
-
-def looked(rows, moment, claims):
-    """The view as point 13 tells it, each truth asked for by itself."""
-    waiting = [number for number, row in enumerate(rows) if row[0] == "until" or ("next", number) in rows]
-    claimed = dict(zip(waiting, claims, strict=True))
-    known = {}
-
-    def truth(number):
-        if number not in known:
-            word, inner = rows[number][0], rows[number][1:]
-            known[number] = {
-                "yes": lambda: True,
-                "lamp": lambda: inner[0] in list(moment),
-                "not": lambda: truth(inner[0]) is False,
-                "and": lambda: (truth(inner[0]), truth(inner[1])) == (True, True),
-                "next": lambda: claimed[inner[0]],
-                "until": lambda: truth(inner[1]) or (truth(inner[0]), claimed[number]) == (True, True),
-            }[word]()
-        return known[number]
-
-    return tuple(truth(number) for number in range(len(rows)))
 
 
 class LookTest(Case):

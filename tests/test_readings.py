@@ -2,8 +2,8 @@ import itertools
 import random
 import unittest
 
-from helper import (A, B, C, NO, OTHER_KINDS, PLAIN_WORDS, WORDS, YES, Case, all_sentences, drawn_book, drawn_run,
-                    drawn_sentence, drawn_sentences, layers, nested, parts, sentence_of_row, show, small_runs, truths)
+from helper import (A, B, C, NO, NO_SENTENCES, OTHER_KINDS, PLAIN_WORDS, WORDS, YES, Case, all_sentences, drawn_book,
+                    drawn_run, drawn_sentence, drawn_sentences, layers, parts, sentence_of_row, show, small_runs, truths)
 
 from lassoscribe.books import book_of, hopes
 from lassoscribe.errors import NoRun, NoSentence
@@ -14,10 +14,6 @@ from lassoscribe.runs import ahead, fold, rest, thinned
 
 T, F = True, False
 MOMENTS = ["", "a", "b", "ab", "ac", "abc", "c", "xyz"]
-NO_SENTENCES = OTHER_KINDS + [
-    "", "yes", "always a", ("yes", YES), ("maybe",), ("lamp", "A"), ("lamp", "ab"), ("lamp", 0), ("not",), ["yes"],
-    ("not", A, B), ("and", A), ("until", A, B, C), ("not", ["lamp", "a"]), {"yes": YES}, (["yes"],), ("not", nested(98)),
-]
 NO_RUNS = OTHER_KINDS + [
     "", "/ a", ([], []), (["a"], []), ([], ["ba"]), (["A"], ["a"]), ([], ["a"], []), (["a"],), [[], ["a"]],
     ((), ["a"]), ([], ("a",)), ([], "a"), (None, ["a"]), ([], [None]), (["a"] * 3001, ["a"]), ([], ["a"] * 3001),
