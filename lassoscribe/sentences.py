@@ -12,6 +12,11 @@ PARTS = {
 }
 
 
+# None where no sentence of this word has such parts.
+def many_parts(word):
+    return PARTS.get(word)
+
+
 def parts_of(sentence):
     if sentence[0] == "lamp":
         return ()

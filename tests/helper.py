@@ -227,6 +227,11 @@ def book_for(*sentences):
     return Book(*book_of([plain(sentence) for sentence in sentences]))
 
 
+def says_along(watch, signs):
+    """What a watch says ahead of the first sign and behind each one."""
+    return [watch.says()] + [watch.see(sign) for sign in signs]
+
+
 def is_paper_over(kept, starts, ways, marks):
     """Whether the tuples (rank, lack) kept by nodes of whatever kind are a paper, as point 19 tells it."""
     if any(start not in kept for start in starts):

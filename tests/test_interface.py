@@ -19,6 +19,15 @@ INTERFACE = {
     "machines": "is_machine(thing) is_walk(machine, stem, ring) lit_along(machine, stem, ring) machine_of(run)",
     "held": "held(machine, sentence) shuts_out(machine, sentence, rows)",
     "frees": "claims_told(rows) possible(sentence) same(one, other) within(one, other)",
+    "watch": "Watch(sentence)",
+    "guards": "guard(sentence) closing(sentence)",
+    "texts": "show_sentence(sentence) show_run(run) show_machine(machine) show_walk(stem, ring) "
+             "read_sentence(text) read_run(text) read_machine(text)",
+    "desk": "Desk()",
+}
+METHODS = {
+    ("watch", "Watch"): "says(self) see(self, moment) goings(self) backs(self) seen(self)",
+    ("desk", "Desk"): "say(self, row)",
 }
 
 
@@ -30,6 +39,15 @@ class InterfaceTest(unittest.TestCase):
                 with self.subTest(module_name + "." + form):
                     name = form.partition("(")[0]
                     self.assertEqual(name + str(inspect.signature(getattr(module, name))), form)
+
+    def test_methods_of_classes(self):
+        for (module_name, class_name), told in METHODS.items():
+            made = getattr(importlib.import_module("lassoscribe." + module_name), class_name)
+            self.assertTrue(inspect.isclass(made))
+            for form in told.replace(") ", ")\n").split("\n"):
+                with self.subTest(class_name + "." + form):
+                    name = form.partition("(")[0]
+                    self.assertEqual(name + str(inspect.signature(getattr(made, name))), form)
 
 
 if __name__ == "__main__":

@@ -339,6 +339,22 @@ class PackageTest(unittest.TestCase):
                 left.pop(name)
 
 
+    def test_methods_and_values_of_objects(self):
+        methods, values = set(), set()
+        for source in package_sources().values():
+            for node in ast.walk(ast.parse(source)):
+                if isinstance(node, ast.ClassDef):
+                    named = [part.name for part in node.body if isinstance(part, ast.FunctionDef)]
+                    self.assertEqual(len(named), len(set(named)))
+                    methods.update(named)
+                if isinstance(node, ast.Attribute) and isinstance(node.ctx, ast.Store):
+                    values.add(node.attr)
+        self.assertEqual(methods & values, set())
+        taken = {name for kind in (str, int, list, tuple, dict, set, bytes) for name in dir(kind)}
+        self.assertEqual(values & (taken | {"args", "format"}), set())
+        self.assertLessEqual(methods & taken, set(METHODS + UNDERSCORED + ["add", "discard"]))
+
+
 class CheckerTest(unittest.TestCase):
     """The checker itself sees what it is there for."""
 
